@@ -1,0 +1,1 @@
+"""Lastdoors: webs of dealers, and what their choices can change."""

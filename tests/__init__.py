@@ -1,0 +1,1 @@
+"""Tests of lastdoors, one file test_*.py each."""

@@ -1,0 +1,67 @@
+"""The examples of the document, as they stand, and the names of its interface."""
+
+import importlib
+import inspect
+import unittest
+
+from lastdoors.forests import all_ends
+from lastdoors.making import by_turns, freely
+from lastdoors.plays import played
+from lastdoors.tables import table, told_bill
+from lastdoors.webs import Web, steps
+
+INTERFACE = {
+    "webs": ["Web(cups, dealers)", "steps(web)", "into(web, door)", "leads_on(web, house)", "door_of(web, step)",
+             "next_of(web, step)"],
+    "making": ["by_turns(doors)", "in_rounds(doors)", "freely(doors)", "never_ahead(one, other, most)"],
+    "plays": ["played(web, load, moves)", "are_moves(web, thing)", "is_play(web, load, thing)", "used(web, moves)",
+              "last_steps(web, moves)", "led(web, load, order, choose)"],
+    "tables": ["bill(web, prices, moves)", "told_bill(web, prices, load, ends)", "table(web, prices)",
+               "share_table(web, cup)", "is_table(web, prices, thing)"],
+    "rounds": ["are_rounds(web, thing)", "are_unlike(web, prices, thing)", "unlike(web, prices)"],
+    "apart": ["far_apart(web, prices, gap)"],
+    "forests": ["is_forest(web, thing)", "can_end(web, ends)", "forest_for(web, ends)", "all_ends(web)"],
+}
+
+
+class ExamplesTest(unittest.TestCase):
+
+    def setUp(self):
+        self.w = Web(2, (by_turns((-1, 1)), by_turns((-2, 0))))
+        self.p = {(0, 0, 0): (1, 1)}
+
+    def test_e01(self):
+        self.assertEqual(self.w.dealers, ((((-1, 1),), ((1, 0),)), (((-2, 1),), ((0, 0),))))
+
+    def test_e02(self):
+        self.assertEqual(steps(self.w), [(0, 0, 0), (0, 1, 0), (1, 0, 0), (1, 1, 0)])
+
+    def test_e03(self):
+        self.assertEqual(table(self.w, self.p), (((2, 3), (1, 3)), (((0, 1), (1, 3)), ((0, 1), (-1, 3)))))
+
+    def test_e04(self):
+        self.assertEqual(all_ends(self.w), [(0, 1), (1, 0), (1, 1)])
+
+    def test_e08(self):
+        self.assertEqual(played(self.w, (1, 1), ((0, 0), (1, 0))), ((0, 0), (1, 1), (1, 1)))
+
+    def test_e10(self):
+        self.assertIsNone(table(Web(2, (freely((-2, -1)),)), {(0, 0, 0): (1, 1)}))
+
+    def test_e13(self):
+        self.assertEqual(told_bill(self.w, self.p, (1, 2), (1, 0)), (5, 3))
+
+
+class InterfaceTest(unittest.TestCase):
+
+    def test_names_arguments_and_files(self):
+        for name, listed in INTERFACE.items():
+            module = importlib.import_module("lastdoors." + name)
+            for one in listed:
+                thing = getattr(module, one.partition("(")[0])
+                self.assertEqual(thing.__module__, "lastdoors." + name)
+                self.assertEqual(thing.__name__ + str(inspect.signature(thing)), one)
+
+
+if __name__ == "__main__":
+    unittest.main()

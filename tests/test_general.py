@@ -1,0 +1,110 @@
+"""0.1 to 0.4 over all functions: what arguments may be, that nothing is changed, equal answers."""
+
+import unittest
+from copy import deepcopy
+
+from lastdoors.apart import far_apart
+from lastdoors.errors import DoorError
+from lastdoors.forests import all_ends, can_end, forest_for, is_forest
+from lastdoors.making import by_turns, freely, in_rounds, never_ahead
+from lastdoors.plays import are_moves, is_play, last_steps, led, played, used
+from lastdoors.rounds import are_rounds, are_unlike, unlike
+from lastdoors.tables import bill, is_table, share_table, table, told_bill
+from lastdoors.webs import Web, door_of, into, leads_on, next_of, steps
+from tests.helpers import FREE, P, W, odd_things, pair, random_play, some_prices, some_web
+
+HALF = {(0, 0, 0): (1, 2), (0, 0, 1): (-2, 3)}
+MOVES = ((0, 0), (1, 0))
+
+
+def first_house(waiting, ends):
+    return [house for house, many in enumerate(waiting) if many][0]
+
+
+def no_choice(house, standing):
+    return 0
+
+
+def right_calls():
+    """A right call of each function, its arguments in a list."""
+    two = unlike(FREE, HALF)
+    return [
+        (steps, [W]), (into, [W, 0]), (leads_on, [W, 0]), (door_of, [W, (0, 0, 0)]), (next_of, [W, (0, 0, 0)]),
+        (by_turns, [(0, 1)]), (in_rounds, [(0, 1)]), (freely, [(0, 1)]), (never_ahead, [0, 1, 2]),
+        (played, [W, (1, 1), MOVES]), (are_moves, [W, MOVES]), (is_play, [W, (1, 1), MOVES]), (used, [W, MOVES]),
+        (last_steps, [W, MOVES]), (led, [W, (1, 1), first_house, no_choice]), (bill, [W, P, MOVES]),
+        (table, [W, P]), (is_table, [W, P, table(W, P)]), (told_bill, [W, P, (1, 2), (1, 0)]), (share_table, [W, 0]),
+        (are_rounds, [FREE, two[0]]), (are_unlike, [FREE, HALF, two]), (unlike, [FREE, HALF]),
+        (far_apart, [FREE, HALF, 2]), (is_forest, [W, ((0, 0, 0), (1, 0, 0))]), (can_end, [W, (1, 1)]),
+        (forest_for, [W, (1, 1)]), (all_ends, [W]),
+    ]
+
+
+class GeneralTest(unittest.TestCase):
+
+    def test_no_argument_is_changed_and_equal_calls_give_equal_answers(self):
+        for call, given in right_calls():
+            kept = deepcopy([thing for thing in given if not callable(thing)])
+            first = call(*given)
+            answer = deepcopy(first)
+            self.assertEqual([thing for thing in given if not callable(thing)], kept, call)
+            if isinstance(first, (list, dict)):
+                first.clear()
+            self.assertEqual(call(*given), answer, call)
+
+    def test_no_other_error_whatever_an_argument_is(self):
+        for call, given in right_calls():
+            for at in range(0 if isinstance(given[0], tuple) else 1, len(given)):
+                if callable(given[at]):
+                    continue
+                for thing in odd_things():
+                    changed = given[:at] + [thing] + given[at + 1:]
+                    try:
+                        answer = call(*changed)
+                    except DoorError:
+                        continue
+                    if call.__name__[:3] in ("is_", "are"):
+                        self.assertIn(answer, (True, False))
+
+    def test_judges_return_flags_and_judge_none(self):
+        for call, given in right_calls():
+            if call.__name__.startswith(("is_", "are_")):
+                self.assertIs(call(*given), True, call)
+                self.assertIs(call(*given[:-1], None), False, call)
+
+    def test_a_call_that_raises_changes_nothing(self):
+        prices = {(0, 0, 0): (2, 4), (0, 1, 0): (1, 1)}
+        kept = deepcopy(prices)
+        with self.assertRaises(DoorError):
+            table(W, prices)
+        self.assertEqual(prices, kept)
+
+    def test_webs_stay_as_they_are(self):
+        dealers = W.dealers
+        for call, given in right_calls():
+            call(*given)
+        self.assertEqual(W, Web(2, dealers))
+
+    def test_fractions_are_in_lowest_terms(self):
+        for seed in range(30):
+            web = some_web(seed)
+            prices = some_prices(seed, web)
+            moves, ends = random_play(seed, web, (1,) * len(web.dealers))
+            told = [bill(web, prices, moves)]
+            found = table(web, prices)
+            if found is not None:
+                told.append(told_bill(web, prices, (1,) * len(web.dealers), ends))
+                told.extend(found[0])
+                told.extend([lead for row in found[1] for lead in row])
+            for fraction in told:
+                self.assertIs(type(fraction), tuple)
+                self.assertEqual(fraction, pair(as_fraction(fraction)))
+
+
+def as_fraction(told):
+    from fractions import Fraction
+    return Fraction(*told)
+
+
+if __name__ == "__main__":
+    unittest.main()
