@@ -39,3 +39,17 @@ def together(amounts):
     for amount in amounts:
         total = plus(total, amount)
     return total
+
+
+def is_more(one, other):
+    """Judge whether the one fraction is greater than the other."""
+    return one[0] * other[1] > other[0] * one[1]
+
+
+def greatest(amounts):
+    """Tell the greatest of a list of fractions, not empty."""
+    most = amounts[0]
+    for amount in amounts:
+        if is_more(amount, most):
+            most = amount
+    return most

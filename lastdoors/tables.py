@@ -102,9 +102,17 @@ def told_bill(web, prices, load, ends):
         raise NoLoad()
     if not are_ends(web, ends):
         raise NoEnds()
-    worths, leads = found
-    parts = [times(worth, many) for worth, many in zip(worths, load)]
-    return together(parts + [row[end] for row, end in zip(leads, ends)])
+    return plus(worth_of(found[0], load), lead_of(found[1], ends))
+
+
+def worth_of(worths, load):
+    """Tell the worths of the houses of all grains of a load, together."""
+    return together([times(worth, many) for worth, many in zip(worths, load)])
+
+
+def lead_of(leads, ends):
+    """Tell the leads of ends, together."""
+    return together([row[end] for row, end in zip(leads, ends)])
 
 
 def share_table(web, cup):

@@ -89,12 +89,13 @@ def reached(arrows, start):
 
 def steps(web):
     """Tell all steps (house, standing, number) of a web, ascending."""
-    return [
-        (house, standing, number)
-        for house, dealer in enumerate(web.dealers)
-        for standing, pairs in enumerate(dealer)
-        for number in range(len(pairs))
-    ]
+    return [step for house in range(len(web.dealers)) for step in steps_of(web, house)]
+
+
+def steps_of(web, house):
+    """Tell all steps of a house, ascending."""
+    dealer = web.dealers[house]
+    return [(house, standing, number) for standing, pairs in enumerate(dealer) for number in range(len(pairs))]
 
 
 def is_step(web, thing):

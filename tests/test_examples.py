@@ -5,7 +5,9 @@ import inspect
 import unittest
 
 from lastdoors.forests import all_ends
+from lastdoors.heaviest import spread
 from lastdoors.making import by_turns, freely
+from lastdoors.numbering import many_forests
 from lastdoors.plays import played
 from lastdoors.tables import table, told_bill
 from lastdoors.webs import Web, steps
@@ -21,6 +23,12 @@ INTERFACE = {
     "rounds": ["are_rounds(web, thing)", "are_unlike(web, prices, thing)", "unlike(web, prices)"],
     "apart": ["far_apart(web, prices, gap)"],
     "forests": ["is_forest(web, thing)", "can_end(web, ends)", "forest_for(web, ends)", "all_ends(web)"],
+    "numbering": ["many_forests(web)", "forest_number(web, forest)", "forest_at(web, number)"],
+    "reaching": ["reached_by(web, forest)"],
+    "heaviest": ["heaviest(web, weights)", "most(web, prices)", "least(web, prices)",
+                 "bound_of(web, weights, nest)", "nest(web, weights)", "is_nest(web, weights, thing)",
+                 "spread(web, prices)", "cup_bounds(web, cup, load)"],
+    "small": ["ends_of(web, load)", "most_of(web, prices, load)", "shortest_play(web, load)"],
 }
 
 
@@ -42,6 +50,9 @@ class ExamplesTest(unittest.TestCase):
     def test_e04(self):
         self.assertEqual(all_ends(self.w), [(0, 1), (1, 0), (1, 1)])
 
+    def test_e05(self):
+        self.assertEqual(spread(self.w, self.p), (2, 3))
+
     def test_e08(self):
         self.assertEqual(played(self.w, (1, 1), ((0, 0), (1, 0))), ((0, 0), (1, 1), (1, 1)))
 
@@ -50,6 +61,9 @@ class ExamplesTest(unittest.TestCase):
 
     def test_e13(self):
         self.assertEqual(told_bill(self.w, self.p, (1, 2), (1, 0)), (5, 3))
+
+    def test_e14(self):
+        self.assertEqual(many_forests(self.w), 3)
 
 
 class InterfaceTest(unittest.TestCase):

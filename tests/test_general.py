@@ -6,15 +6,21 @@ from copy import deepcopy
 from lastdoors.apart import far_apart
 from lastdoors.errors import DoorError
 from lastdoors.forests import all_ends, can_end, forest_for, is_forest
+from lastdoors.heaviest import bound_of, cup_bounds, heaviest, is_nest, least, most, nest, spread
 from lastdoors.making import by_turns, freely, in_rounds, never_ahead
+from lastdoors.numbering import forest_at, forest_number, many_forests
 from lastdoors.plays import are_moves, is_play, last_steps, led, played, used
+from lastdoors.reaching import reached_by
 from lastdoors.rounds import are_rounds, are_unlike, unlike
+from lastdoors.small import ends_of, most_of, shortest_play
 from lastdoors.tables import bill, is_table, share_table, table, told_bill
 from lastdoors.webs import Web, door_of, into, leads_on, next_of, steps
 from tests.helpers import FREE, P, W, odd_things, pair, random_play, some_prices, some_web
 
 HALF = {(0, 0, 0): (1, 2), (0, 0, 1): (-2, 3)}
 MOVES = ((0, 0), (1, 0))
+FOREST = ((0, 0, 0), (1, 1, 0))
+WEIGHTS = {(0, 1, 0): 3, (1, 1, 0): 2}
 
 
 def first_house(waiting, ends):
@@ -36,7 +42,11 @@ def right_calls():
         (table, [W, P]), (is_table, [W, P, table(W, P)]), (told_bill, [W, P, (1, 2), (1, 0)]), (share_table, [W, 0]),
         (are_rounds, [FREE, two[0]]), (are_unlike, [FREE, HALF, two]), (unlike, [FREE, HALF]),
         (far_apart, [FREE, HALF, 2]), (is_forest, [W, ((0, 0, 0), (1, 0, 0))]), (can_end, [W, (1, 1)]),
-        (forest_for, [W, (1, 1)]), (all_ends, [W]),
+        (forest_for, [W, (1, 1)]), (all_ends, [W]), (many_forests, [W]), (forest_at, [W, 1]),
+        (forest_number, [W, FOREST]), (reached_by, [W, FOREST]), (heaviest, [W, WEIGHTS]),
+        (bound_of, [W, WEIGHTS, (((0, 1), 2),)]), (nest, [W, WEIGHTS]), (is_nest, [W, WEIGHTS, nest(W, WEIGHTS)]),
+        (most, [W, P]), (least, [W, P]), (spread, [W, P]), (cup_bounds, [W, 0, (1, 1)]), (ends_of, [W, (1, 2)]),
+        (most_of, [W, P, (1, 2)]), (shortest_play, [W, (1, 2)]),
     ]
 
 

@@ -1,0 +1,101 @@
+"""How many forests there are, and which one has which number.
+
+The number of forests is a determinant: at each house the number of its steps, less, at the house of
+each door, the number of its steps with this door.
+"""
+
+from lastdoors.errors import NoForest, NoNumber
+from lastdoors.forests import is_forest
+from lastdoors.kinds import is_below
+from lastdoors.webs import pair_of, steps_of
+
+
+def many_forests(web):
+    """Tell the number of all forests."""
+    return _determinant(_rows_behind(web, 0))
+
+
+def forest_at(web, number):
+    """Tell the forest with a number, all of them being ascending."""
+    if not is_below(number, many_forests(web)):
+        raise NoNumber()
+    forest = []
+    left = number
+    for house in range(len(web.dealers)):
+        for step, many in _numbers_on(web, forest):
+            if left < many:
+                break
+            left -= many
+        forest.append(step)
+    return tuple(forest)
+
+
+def forest_number(web, forest):
+    """Tell the number of a forest, all of them being ascending."""
+    if not is_forest(web, forest):
+        raise NoForest()
+    number = 0
+    for house, chosen in enumerate(forest):
+        number += sum([many for step, many in _numbers_on(web, forest[:house]) if step < chosen])
+    return number
+
+
+def _numbers_on(web, begun):
+    """Tell for each step of the next house, ascending, how many forests begin so and go on with it."""
+    house = len(begun)
+    ahead = [_row(web, [step]) for step in begun]
+    behind = _rows_behind(web, house + 1)
+    numbers = {}
+    found = []
+    for step in steps_of(web, house):
+        door = pair_of(web, step)[0]
+        if door not in numbers:
+            numbers[door] = _determinant(ahead + [_row(web, [step])] + behind)
+        found.append((step, numbers[door]))
+    return found
+
+
+def _rows_behind(web, house):
+    """Tell the rows of all steps of each house from a house on."""
+    return [_row(web, steps_of(web, other)) for other in range(house, len(web.dealers))]
+
+
+def _row(web, chosen):
+    """Tell the row of some steps of a house: their number there, less those to each house."""
+    row = [0] * len(web.dealers)
+    for step in chosen:
+        row[step[0]] += 1
+        door = pair_of(web, step)[0]
+        if door >= 0:
+            row[door] -= 1
+    return row
+
+
+def _determinant(rows):
+    """Tell the determinant of a square of integers, all divisions being without a rest."""
+    left = [list(row) for row in rows]
+    sign, before = 1, 1
+    while len(left) > 1:
+        at = _first_row(left)
+        if at is None:
+            return 0
+        if at > 0:
+            left[0], left[at] = left[at], left[0]
+            sign = -sign
+        first = left[0]
+        left = [_shortened(first, row, before) for row in left[1:]]
+        before = first[0]
+    return sign * left[0][0]
+
+
+def _first_row(rows):
+    """Tell the place of the first row that does not begin with 0, None if there is none."""
+    for at, row in enumerate(rows):
+        if row[0] != 0:
+            return at
+    return None
+
+
+def _shortened(first, row, before):
+    """Tell a row without its first place, made 0 by the first row; the pivot before divides all."""
+    return [(first[0] * row[k] - row[0] * first[k]) // before for k in range(1, len(row))]
