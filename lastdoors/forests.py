@@ -47,7 +47,7 @@ def _first_home(web, chosen, forest):
     return None
 
 
-def _steps_behind(web):
+def steps_behind(web):
     """Tell for each house and each standing of it the steps that lead to this standing."""
     behind = [[[] for _ in dealer] for dealer in web.dealers]
     for step in steps(web):
@@ -64,7 +64,7 @@ def forest_for(web, ends):
     """Tell a forest whose next standings are these ends, None if there is none."""
     if not are_ends(web, ends):
         raise NoEnds()
-    return _forest_to(web, _steps_behind(web), ends)
+    return _forest_to(web, steps_behind(web), ends)
 
 
 def can_end(web, ends):
@@ -72,13 +72,18 @@ def can_end(web, ends):
     return forest_for(web, ends) is not None
 
 
-def every_ends(web):
-    """Tell all tuples with a standing of each house, ascending, or raise TooMany."""
+def check_few_ends(web):
+    """Raise TooMany where there are too many tuples with a standing of each house."""
     many = 1
     for dealer in web.dealers:
         many = many * len(dealer)
     if many > MOST_ENDS:
         raise TooMany(MOST_ENDS)
+
+
+def every_ends(web):
+    """Tell all tuples with a standing of each house, ascending, or raise TooMany."""
+    check_few_ends(web)
     found = [()]
     for dealer in web.dealers:
         found = [(*ends, standing) for ends in found for standing in range(len(dealer))]
@@ -87,5 +92,5 @@ def every_ends(web):
 
 def all_ends(web):
     """Tell all ends for which there is a forest, ascending."""
-    behind = _steps_behind(web)
+    behind = steps_behind(web)
     return [ends for ends in every_ends(web) if _forest_to(web, behind, ends) is not None]

@@ -1,10 +1,10 @@
 """Rounds: numbers of steps that bring all dealers back, and pairs of them that prices tell apart."""
 
 from lastdoors.errors import NoPrices
-from lastdoors.kinds import is_integer, is_tuple_of
+from lastdoors.kinds import is_tuple_of
 from lastdoors.prices import are_prices, cost_of
-from lastdoors.walks import PricedWalks, load_of_counts
-from lastdoors.webs import is_step, pair_of, steps
+from lastdoors.walks import PricedWalks, are_counts_of_all, balance_of, load_of_counts
+from lastdoors.webs import steps
 
 
 def are_rounds(web, thing):
@@ -14,23 +14,9 @@ def are_rounds(web, thing):
 
 def _are_rounds_from(web, thing, low):
     """Judge whether a thing is rounds of a web with integers from a lowest one on."""
-    if not isinstance(thing, dict) or len(thing) != len(steps(web)):
+    if not are_counts_of_all(web, thing) or min(list(thing.values())) < low:
         return False
-    for step, many in thing.items():
-        if not (is_step(web, step) and is_integer(many) and many >= low):
-            return False
-    return _is_balanced(web, thing)
-
-
-def _is_balanced(web, counts):
-    """Judge whether as many steps lead to each standing as from it."""
-    balance = {}
-    for step, many in counts.items():
-        house, standing, _ = step
-        after = pair_of(web, step)[1]
-        balance[(house, standing)] = balance.get((house, standing), 0) - many
-        balance[(house, after)] = balance.get((house, after), 0) + many
-    return all([many == 0 for many in balance.values()])
+    return all([many == 0 for many in balance_of(web, thing).values()])
 
 
 def are_unlike(web, prices, thing):

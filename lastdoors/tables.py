@@ -63,7 +63,7 @@ def is_table(web, prices, thing):
     """Judge whether a thing is the table for prices."""
     if not are_prices(web, prices):
         raise NoPrices()
-    if not _is_shaped(web, thing):
+    if not is_shaped(web, thing):
         return False
     worths, leads = thing
     for step in steps(web):
@@ -74,7 +74,7 @@ def is_table(web, prices, thing):
     return True
 
 
-def _is_shaped(web, thing):
+def is_shaped(web, thing):
     """Judge whether a thing is a pair of worths and leads with a fraction at each place."""
     if not (is_tuple_of(thing, 2) and are_fractions(thing[0], len(web.dealers))):
         return False

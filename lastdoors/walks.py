@@ -1,10 +1,11 @@
 """Shortest ways among the standings of dealers, and the walks that they close."""
 
 from lastdoors.amounts import NOTHING, times, together
+from lastdoors.kinds import is_integer
 from lastdoors.plays import counted
 from lastdoors.prices import cost_of
 from lastdoors.relations import related
-from lastdoors.webs import pair_of, steps
+from lastdoors.webs import is_step, pair_of, steps
 
 
 def ways_out(web, house):
@@ -50,6 +51,24 @@ def closed_walks(web):
         walk = (*out[house][standing], step, *back[house][pair_of(web, step)[1]])
         found[walk] = True
     return [walk for _, walk in sorted([(len(walk), walk) for walk in found])]
+
+
+def are_counts_of_all(web, thing):
+    """Judge whether a thing is a dict from just all steps of a web to integers."""
+    if not isinstance(thing, dict) or len(thing) != len(steps(web)):
+        return False
+    return all([is_step(web, step) and is_integer(many) for step, many in thing.items()])
+
+
+def balance_of(web, counts):
+    """Tell for each standing of each house the steps that lead to it less those from it, counted so."""
+    balance = {}
+    for step, many in counts.items():
+        house, standing, _ = step
+        after = pair_of(web, step)[1]
+        balance[(house, standing)] = balance.get((house, standing), 0) - many
+        balance[(house, after)] = balance.get((house, after), 0) + many
+    return balance
 
 
 def load_of_counts(web, counts):

@@ -211,3 +211,29 @@ def random_play(seed, web, load):
             waiting[door] += 1
         moves.append((house, number))
     return tuple(moves), tuple(stands)
+
+
+def chain(houses, back, on):
+    """A web in which each house sends some grains back to the one ahead of it, and then some on."""
+    return Web(1, tuple([by_turns((max(0, house - 1),) * back + (house + 1 if house < houses - 1 else -1,) * on)
+                         for house in range(houses)]))
+
+
+def plain_lattice(web):
+    """For each house of a fixed web its number of standings, less the numbers of its steps by doors."""
+    rows = []
+    for house, dealer in enumerate(web.dealers):
+        row = [0] * len(web.dealers)
+        row[house] += len(dealer)
+        for ((door, _),) in dealer:
+            if door >= 0:
+                row[door] -= 1
+        rows.append(row)
+    return rows
+
+
+def plain_alike(web, one, other):
+    """Whether loads of a fixed web differ by a sum of the rows of the lattice, found by fractions."""
+    rows = plain_lattice(web)
+    equations = [([Fraction(row[k]) for row in rows], Fraction(one[k] - other[k])) for k in range(len(rows))]
+    return all([many.denominator == 1 for many in solve(equations, len(rows))])

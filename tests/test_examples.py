@@ -4,11 +4,15 @@ import importlib
 import inspect
 import unittest
 
+from lastdoors.classes import many_classes, reduced
+from lastdoors.fitting import fits
 from lastdoors.forests import all_ends
 from lastdoors.heaviest import spread
 from lastdoors.making import by_turns, freely
 from lastdoors.numbering import many_forests
 from lastdoors.plays import played
+from lastdoors.powers import divisors
+from lastdoors.settling import settled
 from lastdoors.tables import table, told_bill
 from lastdoors.webs import Web, steps
 
@@ -29,6 +33,13 @@ INTERFACE = {
                  "bound_of(web, weights, nest)", "nest(web, weights)", "is_nest(web, weights, thing)",
                  "spread(web, prices)", "cup_bounds(web, cup, load)"],
     "small": ["ends_of(web, load)", "most_of(web, prices, load)", "shortest_play(web, load)"],
+    "settling": ["is_fixed(thing)", "settled(web, load)", "often(web, load)"],
+    "classes": ["alike_loads(web, one, other)", "reduced(web, load)", "ends_of_class(web, load)",
+                "many_classes(web)", "classes(web)"],
+    "powers": ["times_home(web, load)", "opposite(web, load)", "divisors(web)"],
+    "fitting": ["fits(web, load, ends)", "are_numbers(web, load, ends, thing)", "is_witness(web, load, ends, thing)",
+                "numbers_for(web, load, ends)", "witness(web, load, ends)", "fitting_ends(web, load)",
+                "fitting_loads(web, ends, most)"],
 }
 
 
@@ -53,8 +64,18 @@ class ExamplesTest(unittest.TestCase):
     def test_e05(self):
         self.assertEqual(spread(self.w, self.p), (2, 3))
 
+    def test_e06(self):
+        self.assertEqual(settled(self.w, (2, 1)), ((1, 0), (2, 1)))
+
+    def test_e07(self):
+        self.assertEqual(many_classes(self.w), 3)
+        self.assertEqual(reduced(self.w, (2, 1)), (0, 2))
+
     def test_e08(self):
         self.assertEqual(played(self.w, (1, 1), ((0, 0), (1, 0))), ((0, 0), (1, 1), (1, 1)))
+
+    def test_e09(self):
+        self.assertIs(fits(self.w, (1, 1), (1, 1)), True)
 
     def test_e10(self):
         self.assertIsNone(table(Web(2, (freely((-2, -1)),)), {(0, 0, 0): (1, 1)}))
@@ -64,6 +85,9 @@ class ExamplesTest(unittest.TestCase):
 
     def test_e14(self):
         self.assertEqual(many_forests(self.w), 3)
+
+    def test_e15(self):
+        self.assertEqual(divisors(self.w), (3,))
 
 
 class InterfaceTest(unittest.TestCase):

@@ -4,14 +4,18 @@ import unittest
 from copy import deepcopy
 
 from lastdoors.apart import far_apart
+from lastdoors.classes import alike_loads, classes, ends_of_class, many_classes, reduced
 from lastdoors.errors import DoorError
+from lastdoors.fitting import are_numbers, fits, fitting_ends, fitting_loads, is_witness, numbers_for, witness
 from lastdoors.forests import all_ends, can_end, forest_for, is_forest
 from lastdoors.heaviest import bound_of, cup_bounds, heaviest, is_nest, least, most, nest, spread
 from lastdoors.making import by_turns, freely, in_rounds, never_ahead
 from lastdoors.numbering import forest_at, forest_number, many_forests
 from lastdoors.plays import are_moves, is_play, last_steps, led, played, used
+from lastdoors.powers import divisors, opposite, times_home
 from lastdoors.reaching import reached_by
 from lastdoors.rounds import are_rounds, are_unlike, unlike
+from lastdoors.settling import is_fixed, often, settled
 from lastdoors.small import ends_of, most_of, shortest_play
 from lastdoors.tables import bill, is_table, share_table, table, told_bill
 from lastdoors.webs import Web, door_of, into, leads_on, next_of, steps
@@ -46,7 +50,13 @@ def right_calls():
         (forest_number, [W, FOREST]), (reached_by, [W, FOREST]), (heaviest, [W, WEIGHTS]),
         (bound_of, [W, WEIGHTS, (((0, 1), 2),)]), (nest, [W, WEIGHTS]), (is_nest, [W, WEIGHTS, nest(W, WEIGHTS)]),
         (most, [W, P]), (least, [W, P]), (spread, [W, P]), (cup_bounds, [W, 0, (1, 1)]), (ends_of, [W, (1, 2)]),
-        (most_of, [W, P, (1, 2)]), (shortest_play, [W, (1, 2)]),
+        (most_of, [W, P, (1, 2)]), (shortest_play, [W, (1, 2)]), (is_fixed, [W]), (settled, [W, (2, 1)]),
+        (often, [W, (2, 1)]), (alike_loads, [W, (2, 1), (0, 2)]), (reduced, [W, (2, 1)]), (many_classes, [W]),
+        (classes, [W]), (ends_of_class, [W, (0, 1)]), (times_home, [W, (0, 1)]), (opposite, [W, (0, 1)]),
+        (divisors, [W]), (fits, [W, (1, 1), (1, 1)]), (numbers_for, [W, (1, 1), (1, 1)]),
+        (are_numbers, [W, (1, 1), (1, 1), numbers_for(W, (1, 1), (1, 1))]), (witness, [W, (1, 1), (0, 1)]),
+        (is_witness, [W, (1, 1), (0, 1), witness(W, (1, 1), (0, 1))]), (fitting_ends, [W, (1, 1)]),
+        (fitting_loads, [W, (1, 1), 2]),
     ]
 
 
