@@ -72,28 +72,17 @@ def _row(web, chosen):
 
 
 def _determinant(rows):
-    """Tell the determinant of a square of integers, all divisions being without a rest."""
-    left = [list(row) for row in rows]
-    sign, before = 1, 1
+    """Tell the determinant of the rows of some steps of each house, all divisions being without a rest."""
+    left = rows
+    before = 1
     while len(left) > 1:
-        at = _first_row(left)
-        if at is None:
-            return 0
-        if at > 0:
-            left[0], left[at] = left[at], left[0]
-            sign = -sign
         first = left[0]
+        if first[0] == 0:
+            # Elsewhere a row never holds more below 0 than it holds at its own place: so all of it is 0.
+            return 0
         left = [_shortened(first, row, before) for row in left[1:]]
         before = first[0]
-    return sign * left[0][0]
-
-
-def _first_row(rows):
-    """Tell the place of the first row that does not begin with 0, None if there is none."""
-    for at, row in enumerate(rows):
-        if row[0] != 0:
-            return at
-    return None
+    return left[0][0]
 
 
 def _shortened(first, row, before):
