@@ -101,12 +101,14 @@ def written(walked, tails):
 
 
 def dealt(web, load, diaries):
-    """Tell the moves of the play in which each house takes the steps of its diary in order."""
+    """Tell the moves in which each house takes the steps of its diary in order, as far as grains come in."""
     told = {step: ((step[0], step[2]), pair_of(web, step)[0]) for step in steps(web)}
     waiting = list(load)
     places = [0] * len(load)
     moves = []
-    while sum(waiting) > 0:
+    before = -1
+    while len(moves) > before:
+        before = len(moves)
         for house, diary in enumerate(diaries):
             while waiting[house] > 0 and places[house] < len(diary):
                 move, door = told[diary[places[house]]]

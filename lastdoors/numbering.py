@@ -4,15 +4,18 @@ The number of forests is a determinant: at each house the number of its steps, l
 each door, the number of its steps with this door.
 """
 
+from lastdoors.determinants import determinant
 from lastdoors.errors import NoForest, NoNumber
 from lastdoors.forests import is_forest
 from lastdoors.kinds import is_below
+from lastdoors.plays import counted
+from lastdoors.walks import load_of_counts
 from lastdoors.webs import pair_of, steps_of
 
 
 def many_forests(web):
     """Tell the number of all forests."""
-    return _determinant(_rows_behind(web, 0))
+    return determinant(_rows_behind(web, 0))
 
 
 def forest_at(web, number):
@@ -50,7 +53,7 @@ def _numbers_on(web, begun):
     for step in steps_of(web, house):
         door = pair_of(web, step)[0]
         if door not in numbers:
-            numbers[door] = _determinant(ahead + [_row(web, [step])] + behind)
+            numbers[door] = determinant(ahead + [_row(web, [step])] + behind)
         found.append((step, numbers[door]))
     return found
 
@@ -62,29 +65,4 @@ def _rows_behind(web, house):
 
 def _row(web, chosen):
     """Tell the row of some steps of a house: their number there, less those to each house."""
-    row = [0] * len(web.dealers)
-    for step in chosen:
-        row[step[0]] += 1
-        door = pair_of(web, step)[0]
-        if door >= 0:
-            row[door] -= 1
-    return row
-
-
-def _determinant(rows):
-    """Tell the determinant of the rows of some steps of each house, all divisions being without a rest."""
-    left = rows
-    before = 1
-    while len(left) > 1:
-        first = left[0]
-        if first[0] == 0:
-            # Elsewhere a row never holds more below 0 than it holds at its own place: so all of it is 0.
-            return 0
-        left = [_shortened(first, row, before) for row in left[1:]]
-        before = first[0]
-    return left[0][0]
-
-
-def _shortened(first, row, before):
-    """Tell a row without its first place, made 0 by the first row; the pivot before divides all."""
-    return [(first[0] * row[k] - row[0] * first[k]) // before for k in range(1, len(row))]
+    return load_of_counts(web, counted(chosen))

@@ -31,31 +31,29 @@ def steps_taken(web, moves):
         if not (is_tuple_of(move, 2) and is_below(move[0], len(stands))):
             return None
         house, number = move
-        if not _is_number(web, house, stands[house], number):
+        if not is_number(web, house, stands[house], number):
             return None
         taken.append((house, stands[house], number))
         stands[house] = pair_of(web, taken[-1])[1]
     return taken
 
 
-def _is_number(web, house, standing, number):
+def is_number(web, house, standing, number):
     """Judge whether a thing is the number of a step at a standing of a house."""
     return is_below(number, len(web.dealers[house][standing]))
 
 
 def _done(web, load, taken):
     """Tell (waiting, ends, cups) behind steps from a load, or None if a grain lacks."""
-    waiting = list(load)
-    stands = [0] * len(web.dealers)
-    cups = [0] * web.cups
+    waiting, stands, cups = [list(part) for part in first_triple(web, load)]
     for step in taken:
         if waiting[step[0]] == 0:
             return None
-        deal(web, step, waiting, stands, cups)
+        _deal(web, step, waiting, stands, cups)
     return tuple(waiting), tuple(stands), tuple(cups)
 
 
-def deal(web, step, waiting, stands, cups):
+def _deal(web, step, waiting, stands, cups):
     """Let a grain go out by a step: the three lists are changed."""
     house = step[0]
     door, after = pair_of(web, step)
@@ -65,6 +63,18 @@ def deal(web, step, waiting, stands, cups):
         waiting[door] += 1
     else:
         cups[-1 - door] += 1
+
+
+def first_triple(web, load):
+    """Tell the triple (waiting, ends, cups) ahead of all moves."""
+    return tuple(load), (0,) * len(web.dealers), (0,) * web.cups
+
+
+def triple_behind(web, triple, step):
+    """Tell the triple (waiting, ends, cups) behind a step of a house in which a grain waits."""
+    waiting, stands, cups = [list(part) for part in triple]
+    _deal(web, step, waiting, stands, cups)
+    return tuple(waiting), tuple(stands), tuple(cups)
 
 
 def played(web, load, moves):
@@ -127,9 +137,13 @@ def led(web, load, order, choose):
     """Tell the moves of the play in which order picks each house and choose each step."""
     if not is_load(web, load):
         raise NoLoad()
-    waiting = list(load)
-    stands = [0] * len(web.dealers)
-    cups = [0] * web.cups
+    moves, _ = led_on(web, first_triple(web, load), order, choose)
+    return moves
+
+
+def led_on(web, triple, order, choose):
+    """Lead what waits at a triple until nothing does: tell the moves, and the triple behind them."""
+    waiting, stands, cups = [list(part) for part in triple]
     moves = []
     while sum(waiting) > 0:
         if len(moves) == MOST_MOVES:
@@ -138,8 +152,8 @@ def led(web, load, order, choose):
         if not is_below(house, len(waiting)) or waiting[house] == 0:
             raise NoMoves()
         number = choose(house, stands[house])
-        if not _is_number(web, house, stands[house], number):
+        if not is_number(web, house, stands[house], number):
             raise NoMoves()
         moves.append((house, number))
-        deal(web, (house, stands[house], number), waiting, stands, cups)
-    return tuple(moves)
+        _deal(web, (house, stands[house], number), waiting, stands, cups)
+    return tuple(moves), (tuple(waiting), tuple(stands), tuple(cups))

@@ -2,7 +2,7 @@
 
 from lastdoors.amounts import greatest, plus
 from lastdoors.errors import NoLoad, NoPrices, NoTable, TooMany
-from lastdoors.plays import deal, is_load
+from lastdoors.plays import first_triple, is_load, triple_behind
 from lastdoors.prices import are_prices
 from lastdoors.tables import lead_of, table_for, worth_of
 
@@ -14,7 +14,7 @@ def _triples(web, load):
 
     It is a dict to the pair of a triple one move ahead and this move, None for the first triple.
     """
-    first = (tuple(load), (0,) * len(load), (0,) * web.cups)
+    first = first_triple(web, load)
     ahead = {first: None}
     found = [first]
     at = 0
@@ -37,9 +37,7 @@ def _moves_on(web, triple):
         if many > 0:
             standing = triple[1][house]
             for number in range(len(web.dealers[house][standing])):
-                waiting, stands, cups = [list(part) for part in triple]
-                deal(web, (house, standing, number), waiting, stands, cups)
-                found.append(((house, number), (tuple(waiting), tuple(stands), tuple(cups))))
+                found.append(((house, number), triple_behind(web, triple, (house, standing, number))))
     return found
 
 

@@ -5,6 +5,7 @@ import inspect
 import unittest
 
 from lastdoors.classes import many_classes, reduced
+from lastdoors.diaries import many_walks
 from lastdoors.fitting import fits
 from lastdoors.forests import all_ends
 from lastdoors.heaviest import spread
@@ -14,6 +15,7 @@ from lastdoors.plays import played
 from lastdoors.powers import divisors
 from lastdoors.settling import settled
 from lastdoors.tables import table, told_bill
+from lastdoors.texts import web_text
 from lastdoors.webs import Web, steps
 
 INTERFACE = {
@@ -40,6 +42,18 @@ INTERFACE = {
     "fitting": ["fits(web, load, ends)", "are_numbers(web, load, ends, thing)", "is_witness(web, load, ends, thing)",
                 "numbers_for(web, load, ends)", "witness(web, load, ends)", "fitting_ends(web, load)",
                 "fitting_loads(web, ends, most)"],
+    "diaries": ["many_walks(web, house, counts, last)", "many_diaries(web, counts)", "some_diaries(web, counts)",
+                "play_of(web, diaries)", "are_diaries(web, counts, thing)", "load_of(web, counts)",
+                "counts_of(web, diaries)"],
+    "joining": ["beside(one, other)", "behind(one, cup, other, house)", "renumbered(web, order)",
+                "without_choice(web, numbers)", "loads_add(web, one, other)"],
+    "yards": ["Yard(web)"],
+    "texts": ["web_text(web)", "load_text(web, load)", "moves_text(web, moves)", "prices_text(web, prices)"],
+}
+METHODS = {
+    "yards.Yard": ["pour(self, house, many)", "deal(self, house, number)", "run(self, order, choose)", "heaps(self)",
+                   "stands(self)", "filled(self)", "poured(self)", "dealt(self)", "spent(self, prices)",
+                   "owed(self, prices)", "back(self)", "depth(self)", "copy(self)", "trying(self, action)"],
 }
 
 
@@ -80,6 +94,13 @@ class ExamplesTest(unittest.TestCase):
     def test_e10(self):
         self.assertIsNone(table(Web(2, (freely((-2, -1)),)), {(0, 0, 0): (1, 1)}))
 
+    def test_e11(self):
+        free = Web(2, (freely((-2, -1)),))
+        self.assertEqual(many_walks(free, 0, {(0, 0, 0): 2, (0, 0, 1): 1}, (0, 0, 0)), 2)
+
+    def test_e12(self):
+        self.assertEqual(web_text(self.w), "cups 2\nhouse\nc0>1\nh1>0\nhouse\nc1>1\nh0>0\n")
+
     def test_e13(self):
         self.assertEqual(told_bill(self.w, self.p, (1, 2), (1, 0)), (5, 3))
 
@@ -98,6 +119,14 @@ class InterfaceTest(unittest.TestCase):
             for one in listed:
                 thing = getattr(module, one.partition("(")[0])
                 self.assertEqual(thing.__module__, "lastdoors." + name)
+                self.assertEqual(thing.__name__ + str(inspect.signature(thing)), one)
+
+    def test_methods_stand_in_the_class_itself(self):
+        for name, listed in METHODS.items():
+            module, _, word = name.partition(".")
+            own = vars(getattr(importlib.import_module("lastdoors." + module), word))
+            for one in listed:
+                thing = own[one.partition("(")[0]]
                 self.assertEqual(thing.__name__ + str(inspect.signature(thing)), one)
 
 

@@ -5,10 +5,13 @@ from copy import deepcopy
 
 from lastdoors.apart import far_apart
 from lastdoors.classes import alike_loads, classes, ends_of_class, many_classes, reduced
+from lastdoors.diaries import (are_diaries, counts_of, load_of, many_diaries, many_walks, play_of,
+                               some_diaries)
 from lastdoors.errors import DoorError
 from lastdoors.fitting import are_numbers, fits, fitting_ends, fitting_loads, is_witness, numbers_for, witness
 from lastdoors.forests import all_ends, can_end, forest_for, is_forest
 from lastdoors.heaviest import bound_of, cup_bounds, heaviest, is_nest, least, most, nest, spread
+from lastdoors.joining import behind, beside, loads_add, renumbered, without_choice
 from lastdoors.making import by_turns, freely, in_rounds, never_ahead
 from lastdoors.numbering import forest_at, forest_number, many_forests
 from lastdoors.plays import are_moves, is_play, last_steps, led, played, used
@@ -18,13 +21,16 @@ from lastdoors.rounds import are_rounds, are_unlike, unlike
 from lastdoors.settling import is_fixed, often, settled
 from lastdoors.small import ends_of, most_of, shortest_play
 from lastdoors.tables import bill, is_table, share_table, table, told_bill
+from lastdoors.texts import load_text, moves_text, prices_text, web_text
 from lastdoors.webs import Web, door_of, into, leads_on, next_of, steps
+from lastdoors.yards import Yard
 from tests.helpers import FREE, P, W, odd_things, pair, random_play, some_prices, some_web
 
 HALF = {(0, 0, 0): (1, 2), (0, 0, 1): (-2, 3)}
 MOVES = ((0, 0), (1, 0))
 FOREST = ((0, 0, 0), (1, 1, 0))
 WEIGHTS = {(0, 1, 0): 3, (1, 1, 0): 2}
+COUNTS = {(0, 0, 0): 1, (0, 1, 0): 1, (1, 0, 0): 1}
 
 
 def first_house(waiting, ends):
@@ -56,7 +62,11 @@ def right_calls():
         (divisors, [W]), (fits, [W, (1, 1), (1, 1)]), (numbers_for, [W, (1, 1), (1, 1)]),
         (are_numbers, [W, (1, 1), (1, 1), numbers_for(W, (1, 1), (1, 1))]), (witness, [W, (1, 1), (0, 1)]),
         (is_witness, [W, (1, 1), (0, 1), witness(W, (1, 1), (0, 1))]), (fitting_ends, [W, (1, 1)]),
-        (fitting_loads, [W, (1, 1), 2]),
+        (fitting_loads, [W, (1, 1), 2]), (many_walks, [W, 0, COUNTS, (0, 1, 0)]), (many_diaries, [W, COUNTS]),
+        (some_diaries, [W, COUNTS]), (are_diaries, [W, COUNTS, ((0, 0), (0,))]), (load_of, [W, COUNTS]),
+        (counts_of, [W, ((0, 0), (0,))]), (play_of, [W, ((0, 0), (0,))]), (renumbered, [W, (1, 0)]),
+        (without_choice, [FREE, ((1,),)]), (loads_add, [W, (1, 2), (0, 3)]), (web_text, [W]),
+        (load_text, [W, (1, 2)]), (moves_text, [W, MOVES]), (prices_text, [W, P]),
     ]
 
 
@@ -86,6 +96,26 @@ class GeneralTest(unittest.TestCase):
                     if call.__name__[:3] in ("is_", "are"):
                         self.assertIn(answer, (True, False))
 
+    def test_no_other_error_in_putting_webs_together_and_in_yards(self):
+        yard = Yard(W)
+        yard.pour(0, 2)
+        for thing in odd_things():
+            for call, given in [(behind, [W, thing, FREE, 0]), (behind, [W, 0, FREE, thing]),
+                                (yard.copy().pour, [thing, 1]), (yard.copy().pour, [0, thing]),
+                                (yard.copy().deal, [thing, 0]), (yard.copy().deal, [0, thing]),
+                                (yard.spent, [thing]), (yard.owed, [thing])]:
+                try:
+                    call(*given)
+                except DoorError:
+                    continue
+
+    def test_objects_are_equal_to_nothing_of_another_kind(self):
+        for one in (W, Yard(W)):
+            for other in odd_things() + [Yard(W), Yard]:
+                if type(one) is not type(other):
+                    self.assertFalse(one == other)
+                    self.assertTrue(one != other)
+
     def test_judges_return_flags_and_judge_none(self):
         for call, given in right_calls():
             if call.__name__.startswith(("is_", "are_")):
@@ -103,6 +133,9 @@ class GeneralTest(unittest.TestCase):
         dealers = W.dealers
         for call, given in right_calls():
             call(*given)
+        self.assertEqual(beside(W, FREE), beside(W, FREE))
+        self.assertEqual(behind(W, 0, FREE, 0), behind(W, 0, FREE, 0))
+        self.assertEqual(len(FREE.dealers), 1)
         self.assertEqual(W, Web(2, dealers))
 
     def test_fractions_are_in_lowest_terms(self):
