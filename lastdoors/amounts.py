@@ -1,6 +1,6 @@
 """Fractions (top, bottom) in lowest terms, bottom 1 or more: how they are added and multiplied."""
 
-from math import gcd
+from math import gcd, lcm
 
 NOTHING = (0, 1)
 
@@ -39,6 +39,22 @@ def together(amounts):
     for amount in amounts:
         total = plus(total, amount)
     return total
+
+
+def common_bottom(amounts):
+    """Tell the least integer from 1 on by which each of a list of fractions becomes an integer."""
+    common = 1
+    for _, bottom in amounts:
+        common = lcm(common, bottom)
+    return common
+
+
+def greatest_divisor(numbers):
+    """Tell the greatest integer that divides all of a list of integers, 0 if all are 0."""
+    common = 0
+    for number in numbers:
+        common = gcd(common, number)
+    return common
 
 
 def is_more(one, other):

@@ -6,7 +6,7 @@ from lastdoors.forests import check_few_ends
 from lastdoors.kinds import is_within
 from lastdoors.lattices import whole_off
 from lastdoors.matching import Matching
-from lastdoors.plays import are_ends, is_load
+from lastdoors.plays import are_ends, full_loads, is_load, many_full_loads
 from lastdoors.tables import is_shaped, lead_of, worth_of
 from lastdoors.walks import are_counts_of_all, balance_of, load_of_counts
 from lastdoors.webs import pair_of, steps
@@ -114,14 +114,8 @@ def fitting_loads(web, ends, most):
         raise NoEnds()
     if not is_within(most, 1, MOST_GRAINS):
         raise NoNumber()
-    many = 1
-    for _ in web.dealers:
-        many = many * most
-    if many > MOST_LOADS:
+    if many_full_loads(web, most) > MOST_LOADS:
         raise TooMany(MOST_LOADS)
-    loads = [()]
-    for _ in web.dealers:
-        loads = [(*load, grains) for load in loads for grains in range(1, most + 1)]
     matching = Matching(web)
     rest = matching.lattice.rest(matching.load_to(ends))
-    return [load for load in loads if matching.lattice.rest(load) == rest]
+    return [load for load in full_loads(web, most) if matching.lattice.rest(load) == rest]

@@ -72,12 +72,17 @@ def can_end(web, ends):
     return forest_for(web, ends) is not None
 
 
-def check_few_ends(web):
-    """Raise TooMany where there are too many tuples with a standing of each house."""
+def many_ends(web):
+    """Tell how many tuples with a standing of each house there are."""
     many = 1
     for dealer in web.dealers:
         many = many * len(dealer)
-    if many > MOST_ENDS:
+    return many
+
+
+def check_few_ends(web):
+    """Raise TooMany where there are too many tuples with a standing of each house."""
+    if many_ends(web) > MOST_ENDS:
         raise TooMany(MOST_ENDS)
 
 

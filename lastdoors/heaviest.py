@@ -1,8 +1,6 @@
 """Heaviest forests, nests that bar heavier ones, and the most and least that choices can do."""
 
-from math import lcm
-
-from lastdoors.amounts import fraction, less, plus
+from lastdoors.amounts import common_bottom, fraction, less, plus
 from lastdoors.errors import NoCup, NoLoad, NoNest, NoPrices, NoTable, NoWeights
 from lastdoors.kinds import is_ascending, is_below, is_integer, is_tuple_of, is_within
 from lastdoors.nests import best_forest, leaves
@@ -123,10 +121,7 @@ def _leads_for(web, prices):
 
 def _extreme(web, leads, sign):
     """Tell the greatest sum of leads for the sign 1, the least one for -1, and a forest to such ends."""
-    common = 1
-    for row in leads:
-        for _, bottom in row:
-            common = lcm(common, bottom)
+    common = common_bottom([lead for row in leads for lead in row])
     weights = {}
     for step in steps(web):
         top, bottom = leads[step[0]][pair_of(web, step)[1]]

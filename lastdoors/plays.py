@@ -14,6 +14,22 @@ def is_load(web, thing):
     return all([is_integer(many) and many >= 0 for many in thing])
 
 
+def many_full_loads(web, most):
+    """Tell how many full loads there are with at most so many grains in each house."""
+    many = 1
+    for _ in web.dealers:
+        many = many * most
+    return many
+
+
+def full_loads(web, most):
+    """Tell all full loads with at most so many grains in each house, ascending."""
+    loads = [()]
+    for _ in web.dealers:
+        loads = [(*load, grains) for load in loads for grains in range(1, most + 1)]
+    return loads
+
+
 def are_ends(web, thing):
     """Judge whether a thing is a tuple with a standing of each house."""
     if not is_tuple_of(thing, len(web.dealers)):

@@ -12,10 +12,10 @@ def are_prices(web, thing):
     """Judge whether a thing is prices: a dict from some steps to fractions within the bounds."""
     if not isinstance(thing, dict):
         return False
-    return all([is_step(web, step) and _is_price(price) for step, price in thing.items()])
+    return all([is_step(web, step) and is_price(price) for step, price in thing.items()])
 
 
-def _is_price(thing):
+def is_price(thing):
     """Judge whether a thing is a fraction within the bounds of prices."""
     if not is_fraction(thing):
         return False

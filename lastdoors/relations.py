@@ -4,7 +4,7 @@ A row is a pair: a list of integers, and the dict of the multiples of the given 
 places, that come together to this list.
 """
 
-from math import gcd
+from lastdoors.amounts import greatest_divisor
 
 
 def related(loads):
@@ -52,8 +52,6 @@ def _without(row, other, place):
     multiples = {at: one * many for at, many in row[1].items()}
     for at, many in other[1].items():
         multiples[at] = multiples.get(at, 0) - two * many
-    common = 0
-    for many in multiples.values():
-        common = gcd(common, many)
+    common = greatest_divisor(list(multiples.values()))
     smaller = {at: many // common for at, many in multiples.items() if many != 0}
     return [number // common for number in numbers], smaller

@@ -9,10 +9,10 @@ from lastdoors.webs import steps
 
 def are_rounds(web, thing):
     """Judge whether a thing is rounds of a web."""
-    return _are_rounds_from(web, thing, 0)
+    return are_rounds_from(web, thing, 0)
 
 
-def _are_rounds_from(web, thing, low):
+def are_rounds_from(web, thing, low):
     """Judge whether a thing is rounds of a web with integers from a lowest one on."""
     if not are_counts_of_all(web, thing) or min(list(thing.values())) < low:
         return False
@@ -25,7 +25,7 @@ def are_unlike(web, prices, thing):
         raise NoPrices()
     if not is_tuple_of(thing, 2):
         return False
-    if not all([_are_rounds_from(web, part, 1) for part in thing]):
+    if not all([are_rounds_from(web, part, 1) for part in thing]):
         return False
     one, other = thing
     if load_of_counts(web, one) != load_of_counts(web, other):

@@ -4,6 +4,7 @@ import importlib
 import inspect
 import unittest
 
+from lastdoors.chances import evenly, mean_worths
 from lastdoors.classes import many_classes, reduced
 from lastdoors.diaries import many_walks
 from lastdoors.fitting import fits
@@ -49,11 +50,18 @@ INTERFACE = {
                 "without_choice(web, numbers)", "loads_add(web, one, other)"],
     "yards": ["Yard(web)"],
     "texts": ["web_text(web)", "load_text(web, load)", "moves_text(web, moves)", "prices_text(web, prices)"],
+    "reading": ["read_web(text)", "read_load(web, text)", "read_moves(web, text)", "read_prices(web, text)"],
+    "desk": ["Desk()"],
+    "chances": ["evenly(web)", "long_shares(web, chances)", "chances_of(web, rounds)",
+                "mean_worths(web, chances, prices)", "home_shares(web, chances)", "unlike_chances(web, prices)",
+                "are_unlike_chances(web, prices, thing)"],
+    "strangers": ["refuted(claim, web)", "refuted_bill(claim, web, prices, most)"],
 }
 METHODS = {
     "yards.Yard": ["pour(self, house, many)", "deal(self, house, number)", "run(self, order, choose)", "heaps(self)",
                    "stands(self)", "filled(self)", "poured(self)", "dealt(self)", "spent(self, prices)",
                    "owed(self, prices)", "back(self)", "depth(self)", "copy(self)", "trying(self, action)"],
+    "desk.Desk": ["tell(self, line)", "undoable(self)"],
 }
 
 
@@ -109,6 +117,9 @@ class ExamplesTest(unittest.TestCase):
 
     def test_e15(self):
         self.assertEqual(divisors(self.w), (3,))
+
+    def test_e16(self):
+        self.assertEqual(mean_worths(self.w, evenly(self.w), self.p), ((2, 3), (1, 3)))
 
 
 class InterfaceTest(unittest.TestCase):

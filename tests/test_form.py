@@ -105,7 +105,9 @@ class FormTest(unittest.TestCase):
                 if isinstance(node, ast.Assign):
                     self.assertTrue(len(node.targets) == 1 and isinstance(node.targets[0], ast.Name), name)
                     value = node.value.operand if isinstance(node.value, ast.UnaryOp) else node.value
-                    self.assertIsInstance(value, (ast.Constant, ast.Tuple), name)
+                    self.assertIsInstance(value, (ast.Constant, ast.Tuple, ast.Dict), name)
+                    inside = value.values if isinstance(value, ast.Dict) else getattr(value, "elts", [])
+                    self.assertTrue(all(isinstance(part, (ast.Constant, ast.Tuple)) for part in inside), name)
 
     def test_nothing_that_is_not_allowed(self):
         barred = (ast.GeneratorExp, ast.Global, ast.AsyncFunctionDef, ast.Await, ast.Yield, ast.YieldFrom,

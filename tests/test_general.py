@@ -4,7 +4,10 @@ import unittest
 from copy import deepcopy
 
 from lastdoors.apart import far_apart
+from lastdoors.chances import (are_unlike_chances, chances_of, evenly, home_shares, long_shares, mean_worths,
+                               unlike_chances)
 from lastdoors.classes import alike_loads, classes, ends_of_class, many_classes, reduced
+from lastdoors.desk import Desk
 from lastdoors.diaries import (are_diaries, counts_of, load_of, many_diaries, many_walks, play_of,
                                some_diaries)
 from lastdoors.errors import DoorError
@@ -17,9 +20,11 @@ from lastdoors.numbering import forest_at, forest_number, many_forests
 from lastdoors.plays import are_moves, is_play, last_steps, led, played, used
 from lastdoors.powers import divisors, opposite, times_home
 from lastdoors.reaching import reached_by
+from lastdoors.reading import read_load, read_moves, read_prices, read_web
 from lastdoors.rounds import are_rounds, are_unlike, unlike
 from lastdoors.settling import is_fixed, often, settled
 from lastdoors.small import ends_of, most_of, shortest_play
+from lastdoors.strangers import refuted, refuted_bill
 from lastdoors.tables import bill, is_table, share_table, table, told_bill
 from lastdoors.texts import load_text, moves_text, prices_text, web_text
 from lastdoors.webs import Web, door_of, into, leads_on, next_of, steps
@@ -41,9 +46,14 @@ def no_choice(house, standing):
     return 0
 
 
+def no_claim(*asked):
+    return None
+
+
 def right_calls():
     """A right call of each function, its arguments in a list."""
     two = unlike(FREE, HALF)
+    even = evenly(FREE)
     return [
         (steps, [W]), (into, [W, 0]), (leads_on, [W, 0]), (door_of, [W, (0, 0, 0)]), (next_of, [W, (0, 0, 0)]),
         (by_turns, [(0, 1)]), (in_rounds, [(0, 1)]), (freely, [(0, 1)]), (never_ahead, [0, 1, 2]),
@@ -66,7 +76,12 @@ def right_calls():
         (some_diaries, [W, COUNTS]), (are_diaries, [W, COUNTS, ((0, 0), (0,))]), (load_of, [W, COUNTS]),
         (counts_of, [W, ((0, 0), (0,))]), (play_of, [W, ((0, 0), (0,))]), (renumbered, [W, (1, 0)]),
         (without_choice, [FREE, ((1,),)]), (loads_add, [W, (1, 2), (0, 3)]), (web_text, [W]),
-        (load_text, [W, (1, 2)]), (moves_text, [W, MOVES]), (prices_text, [W, P]),
+        (load_text, [W, (1, 2)]), (moves_text, [W, MOVES]), (prices_text, [W, P]), (read_web, [web_text(W)]),
+        (read_load, [W, "1 2"]), (read_moves, [W, "0.0 1.0"]), (read_prices, [W, "0.0.0 1/1\n"]), (evenly, [FREE]),
+        (long_shares, [FREE, even]), (chances_of, [FREE, two[0]]), (mean_worths, [FREE, even, HALF]),
+        (home_shares, [FREE, even]), (unlike_chances, [FREE, HALF]),
+        (are_unlike_chances, [FREE, HALF, unlike_chances(FREE, HALF)]), (refuted, [no_claim, W]),
+        (refuted_bill, [no_claim, W, P, 2]),
     ]
 
 
@@ -84,8 +99,8 @@ class GeneralTest(unittest.TestCase):
 
     def test_no_other_error_whatever_an_argument_is(self):
         for call, given in right_calls():
-            for at in range(0 if isinstance(given[0], tuple) else 1, len(given)):
-                if callable(given[at]):
+            for at in range(len(given)):
+                if callable(given[at]) or isinstance(given[at], Web):
                     continue
                 for thing in odd_things():
                     changed = given[:at] + [thing] + given[at + 1:]
@@ -103,6 +118,7 @@ class GeneralTest(unittest.TestCase):
             for call, given in [(behind, [W, thing, FREE, 0]), (behind, [W, 0, FREE, thing]),
                                 (yard.copy().pour, [thing, 1]), (yard.copy().pour, [0, thing]),
                                 (yard.copy().deal, [thing, 0]), (yard.copy().deal, [0, thing]),
+                                (Desk().tell, [thing]), (Web, [thing, W.dealers]), (Web, [2, thing]),
                                 (yard.spent, [thing]), (yard.owed, [thing])]:
                 try:
                     call(*given)
@@ -110,8 +126,8 @@ class GeneralTest(unittest.TestCase):
                     continue
 
     def test_objects_are_equal_to_nothing_of_another_kind(self):
-        for one in (W, Yard(W)):
-            for other in odd_things() + [Yard(W), Yard]:
+        for one in (W, Yard(W), Desk()):
+            for other in odd_things() + [Yard(W), Yard, Desk()]:
                 if type(one) is not type(other):
                     self.assertFalse(one == other)
                     self.assertTrue(one != other)
