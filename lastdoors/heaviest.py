@@ -1,12 +1,11 @@
 """Heaviest forests, nests that bar heavier ones, and the most and least that choices can do."""
 
 from lastdoors.amounts import common_bottom, fraction, less, plus
-from lastdoors.errors import NoCup, NoLoad, NoNest, NoPrices, NoTable, NoWeights
+from lastdoors.errors import NoCup, NoLoad, NoNest, NoWeights
 from lastdoors.kinds import is_ascending, is_below, is_integer, is_tuple_of, is_within
 from lastdoors.nests import best_forest, leaves
 from lastdoors.plays import is_load
-from lastdoors.prices import are_prices
-from lastdoors.tables import share_table, table_for, worth_of
+from lastdoors.tables import share_table, sure_table, worth_of
 from lastdoors.webs import is_step, pair_of, steps, steps_of
 
 HIGHEST_WEIGHT = 1000000
@@ -95,28 +94,18 @@ def is_nest(web, weights, thing):
 
 def most(web, prices):
     """Tell the greatest sum of leads of ends that can come, and a forest to such ends."""
-    return _extreme(web, _leads_for(web, prices), 1)
+    return _extreme(web, sure_table(web, prices)[1], 1)
 
 
 def least(web, prices):
     """Tell the least sum of leads of ends that can come, and a forest to such ends."""
-    return _extreme(web, _leads_for(web, prices), -1)
+    return _extreme(web, sure_table(web, prices)[1], -1)
 
 
 def spread(web, prices):
     """Tell how much more the greatest sum of leads is than the least one."""
-    leads = _leads_for(web, prices)
+    leads = sure_table(web, prices)[1]
     return less(_extreme(web, leads, 1)[0], _extreme(web, leads, -1)[0])
-
-
-def _leads_for(web, prices):
-    """Tell the leads of the table for prices."""
-    if not are_prices(web, prices):
-        raise NoPrices()
-    found = table_for(web, prices)
-    if found is None:
-        raise NoTable()
-    return found[1]
 
 
 def _extreme(web, leads, sign):

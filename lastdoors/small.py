@@ -1,10 +1,9 @@
 """All that can come of small loads."""
 
 from lastdoors.amounts import greatest, plus
-from lastdoors.errors import NoLoad, NoPrices, NoTable, TooMany
+from lastdoors.errors import NoLoad, TooMany
 from lastdoors.plays import first_triple, is_load, triple_behind
-from lastdoors.prices import are_prices
-from lastdoors.tables import lead_of, table_for, worth_of
+from lastdoors.tables import lead_of, sure_table, worth_of
 
 MOST_TRIPLES = 20000
 
@@ -50,12 +49,7 @@ def ends_of(web, load):
 
 def most_of(web, prices, load):
     """Tell the greatest bill of a play of a load."""
-    if not are_prices(web, prices):
-        raise NoPrices()
-    found = table_for(web, prices)
-    if found is None:
-        raise NoTable()
-    worths, leads = found
+    worths, leads = sure_table(web, prices)
     most = greatest([lead_of(leads, ends) for ends, _ in ends_of(web, load)])
     return plus(worth_of(worths, load), most)
 

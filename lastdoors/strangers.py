@@ -1,12 +1,11 @@
 """Functions of strangers that claim to tell ends and bills: the first ones that they tell wrong."""
 
 from lastdoors.amounts import plus
-from lastdoors.errors import NoNumber, NoPrices, NoTable, TooMany
+from lastdoors.errors import NoNumber, TooMany
 from lastdoors.forests import all_ends, every_ends, many_ends
 from lastdoors.kinds import is_fraction, is_within
 from lastdoors.plays import full_loads, many_full_loads
-from lastdoors.prices import are_prices
-from lastdoors.tables import lead_of, table_for, worth_of
+from lastdoors.tables import lead_of, sure_table, worth_of
 
 MOST_GRAINS = 3
 MOST_PAIRS = 20000
@@ -24,16 +23,11 @@ def refuted(claim, web):
 
 def refuted_bill(claim, web, prices, most):
     """Tell the least pair (load, ends) of which a claim does not tell the bill, None if there is none."""
-    if not are_prices(web, prices):
-        raise NoPrices()
-    found = table_for(web, prices)
-    if found is None:
-        raise NoTable()
+    worths, leads = sure_table(web, prices)
     if not is_within(most, 1, MOST_GRAINS):
         raise NoNumber()
     if many_full_loads(web, most) * many_ends(web) > MOST_PAIRS:
         raise TooMany(MOST_PAIRS)
-    worths, leads = found
     coming = [(ends, lead_of(leads, ends)) for ends in all_ends(web)]
     for load in full_loads(web, most):
         worth = worth_of(worths, load)

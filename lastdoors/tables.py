@@ -43,6 +43,14 @@ def table_for(web, prices):
     return tuple(worths), tuple(leads)
 
 
+def sure_table(web, prices):
+    """Tell the table for prices, or raise NoPrices or NoTable."""
+    found = table(web, prices)
+    if found is None:
+        raise NoTable()
+    return found
+
+
 def _leads(web, prices, worths, house):
     """Tell the leads of all standings of a house, by a way to each."""
     ways = ways_out(web, house)
@@ -93,16 +101,12 @@ def are_fractions(thing, many):
 
 def told_bill(web, prices, load, ends):
     """Tell the bill of every play of a load with these ends."""
-    if not are_prices(web, prices):
-        raise NoPrices()
-    found = table_for(web, prices)
-    if found is None:
-        raise NoTable()
+    worths, leads = sure_table(web, prices)
     if not is_load(web, load):
         raise NoLoad()
     if not are_ends(web, ends):
         raise NoEnds()
-    return plus(worth_of(found[0], load), lead_of(found[1], ends))
+    return plus(worth_of(worths, load), lead_of(leads, ends))
 
 
 def worth_of(worths, load):

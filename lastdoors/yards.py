@@ -1,11 +1,10 @@
 """A live web: grains are poured and dealt in it, and what was done can be taken back."""
 
 from lastdoors.amounts import less
-from lastdoors.errors import NoGrain, NoHouse, NoNumber, NoPrices, NoTable, NothingDone
+from lastdoors.errors import NoGrain, NoHouse, NoNumber, NothingDone
 from lastdoors.kinds import is_below, is_within
 from lastdoors.plays import first_triple, is_number, led_on, triple_behind
-from lastdoors.prices import are_prices
-from lastdoors.tables import bill, lead_of, table_for, worth_of
+from lastdoors.tables import bill, lead_of, sure_table, worth_of
 
 MOST_POURED = 1000000
 
@@ -83,12 +82,7 @@ class Yard:
 
     def owed(self, prices):
         """Tell the worths of all grains that wait less the leads of all standings, together."""
-        if not are_prices(self.web, prices):
-            raise NoPrices()
-        found = table_for(self.web, prices)
-        if found is None:
-            raise NoTable()
-        worths, leads = found
+        worths, leads = sure_table(self.web, prices)
         return less(worth_of(worths, self.heaps()), lead_of(leads, self.stands()))
 
     def back(self):

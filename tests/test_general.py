@@ -85,6 +85,35 @@ def right_calls():
     ]
 
 
+def changes_inside(thing, others):
+    """A thing with one part in it put out, put in, or put into the place of another one."""
+    if isinstance(thing, (tuple, list)):
+        kind = type(thing)
+        yield thing[1:]
+        yield thing + thing[-1:]
+        yield list(thing) if kind is tuple else tuple(thing)
+        for at, part in enumerate(thing):
+            for other in others + list(changes_inside(part, others)):
+                yield thing[:at] + kind([other]) + thing[at + 1:]
+    elif isinstance(thing, dict):
+        for key, part in thing.items():
+            left = {other: thing[other] for other in thing if other != key}
+            yield left
+            for other in others + list(changes_inside(part, others)):
+                yield {**thing, key: other}
+                if is_key(other):
+                    yield {**left, other: part}
+    elif type(thing) is int:
+        yield from (thing + 1, thing - 1, 10 ** 60)
+
+
+def is_key(thing):
+    try:
+        return hash(thing) is not None
+    except TypeError:
+        return False
+
+
 class GeneralTest(unittest.TestCase):
 
     def test_no_argument_is_changed_and_equal_calls_give_equal_answers(self):
@@ -106,6 +135,20 @@ class GeneralTest(unittest.TestCase):
                     changed = given[:at] + [thing] + given[at + 1:]
                     try:
                         answer = call(*changed)
+                    except DoorError:
+                        continue
+                    if call.__name__[:3] in ("is_", "are"):
+                        self.assertIn(answer, (True, False))
+
+    def test_no_other_error_whatever_is_inside_an_argument(self):
+        things = odd_things()
+        for call, given in right_calls():
+            for at in range(len(given)):
+                if callable(given[at]) or isinstance(given[at], Web):
+                    continue
+                for changed in changes_inside(given[at], things):
+                    try:
+                        answer = call(*given[:at], changed, *given[at + 1:])
                     except DoorError:
                         continue
                     if call.__name__[:3] in ("is_", "are"):
