@@ -52,7 +52,8 @@ class Yard:
     def run(self, order, choose):
         """Deal until no grain waits, as order picks each house and choose each step: one deed. Tell its moves."""
         now = self._now()
-        moves, triple = led_on(self.web, now.triple, order, choose)
+        # A run is one deed or none: what the functions themselves do to the yard is put back.
+        moves, triple = self.trying(lambda yard: led_on(yard.web, now.triple, order, choose))
         self.moments.append(Moment(triple, now.grains, moves))
         return moves
 

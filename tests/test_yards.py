@@ -256,6 +256,28 @@ class RunTest(unittest.TestCase):
         self.assertIsInstance(raised(yard.run, first_house, failing_late), ArithmeticError)
         self.assertEqual(told(yard), kept)
 
+    def test_what_the_functions_do_to_the_yard_is_put_back(self):
+        yard = Yard(W)
+        yard.pour(0, 2)
+        kept = told(yard)
+
+        def meddling(waiting, ends):
+            yard.pour(1, 1)
+            yard.back()
+            yard.back()
+            yard.pour(0, 9)
+            return first_house(waiting, ends)
+
+        def failing(house, standing):
+            yard.pour(1, 1)
+            raise ArithmeticError("on")
+
+        self.assertIsInstance(raised(yard.run, meddling, failing), ArithmeticError)
+        self.assertEqual(told(yard), kept)
+        other = yard.copy()
+        self.assertEqual(yard.run(meddling, first_step), other.run(first_house, first_step))
+        self.assertEqual(told(yard), told(other))
+
     def test_too_many_moves(self):
         yard = Yard(FREE)
         yard.pour(0, 30000)
